@@ -231,6 +231,58 @@ func TestP3_1First(t *testing.T) {
 	}
 }
 
+// The table stands beside the function that sums are worked out by: of each number of a byte they tell the same.
+func TestP3_1TableAndFunction(t *testing.T) {
+	forget()
+	for i := range 256 {
+		b := byte(i)
+		want := plain([]byte{^b}) ^ 0xff000000
+		if got := left(b); got != want {
+			t.Errorf("left(%x): %x, not %x", b, got, want)
+		}
+		if got := Tabled(b); got != left(b) {
+			t.Errorf("Tabled(%x): %x, the function tells %x", b, got, left(b))
+		}
+		if got := Bytes([]byte{^b}) ^ 0xff000000; got != Tabled(b) {
+			t.Errorf("Tabled(%x): %x, the sum of the byte %x has %x", b, Tabled(b), ^b, got)
+		}
+	}
+}
+
+// Sums neither make the table nor read it.
+func TestP3_1SumsWithoutTable(t *testing.T) {
+	defer forget()
+	l := mixed(5)
+	sums := func() bool {
+		return Of(l...) == plain(bytesOf(l)) && Bytes(bytesOf(l)) == plain(bytesOf(l)) && Sealed(l...) == plainSeal(l) && Fits(plainSeal(l), l...)
+	}
+	forget()
+	if !sums() {
+		t.Error("a sum is wrong ahead of the table")
+	}
+	if table != [256]uint32{} {
+		t.Error("a sum made the table")
+	}
+	Tabled(0)
+	table = [256]uint32{5: 5}
+	if !sums() {
+		t.Error("a sum is read from the table")
+	}
+}
+
+// The table is made once: what it has is not worked out anew.
+func TestP3_1TableOnce(t *testing.T) {
+	defer forget()
+	forget()
+	if Tabled(1) != left(1) {
+		t.Error("the table isn't there when it is first asked for")
+	}
+	table[1] = 7
+	if x := Tabled(1); x != 7 {
+		t.Errorf("Tabled(1): %x: the table was made anew", x)
+	}
+}
+
 func TestP3_2Sealed(t *testing.T) {
 	for _, l := range lists() {
 		s := Sealed(l...)
